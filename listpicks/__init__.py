@@ -1,0 +1,1 @@
+"""Choices from lists, and the one coefficient that says that there is one."""

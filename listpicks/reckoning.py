@@ -1,0 +1,42 @@
+"""Terms in no order yet: what polynomials are put together from."""
+
+from listpicks.fields import element
+
+
+def gathered(p, totals):
+    """The polynomial with the factors, any integers, that a dict tells by their powers."""
+    found = [(powers, element(p, factor)) for powers, factor in totals.items()]
+    return tuple(sorted([term for term in found if term[1] != 0]))
+
+
+def powers_up_to(p, one, most):
+    """The list of the powers of an element, from the power 0 to the power most."""
+    found = [1]
+    for _ in range(most):
+        found.append(element(p, found[-1] * one))
+    return found
+
+
+def highest(terms, at):
+    """The greatest power that an unknown has in some terms, 0 without terms."""
+    return max([powers[at] for powers, _ in terms], default=0)
+
+
+def exchanged(p, terms, at, table):
+    """The terms, in any order, that come if all powers of one unknown are exchanged.
+
+    The table tells, for each power, the pairs (power, factor) whose sum stands for it.
+    """
+    # Terms that are like but for this unknown are put together before any powers are built anew.
+    columns = {}
+    for powers, factor in terms:
+        column = columns.setdefault((powers[:at], powers[at + 1:]), {})
+        for power, share in table[powers[at]]:
+            column[power] = column.get(power, 0) + factor * share
+    found = []
+    for (ahead, behind), column in columns.items():
+        for power, total in column.items():
+            factor = element(p, total)
+            if factor != 0:
+                found.append((ahead + (power,) + behind, factor))
+    return found

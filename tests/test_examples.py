@@ -1,0 +1,64 @@
+"""The examples of DOC.md, with just the answers that it shows."""
+
+import doctest
+import importlib
+import unittest
+
+from interface import LANDED
+
+CHAPTER_3 = """
+>>> f = polynomial_of(5, 2, [((1, 0), 1), ((0, 1), -1)])
+>>> f, degree(f), times(5, f, f), worth(5, f, (3, 1)), put_in(5, f, 1, 2)
+((((0, 1), 4), ((1, 0), 1)), 1, (((0, 2), 1), ((1, 1), 3), ((2, 0), 1)), 2, (((0, 0), 3), ((1, 0), 1)))
+>>> lists = lists_of(5, [[3, 1, 1], [1]])
+>>> lists, picks(5, f, lists), first_pick(5, f, ((2,), (2,))), list_product(5, 2, 0, (1, 3)), inverse(5, 2)
+(((1, 3), (1,)), ((3, 1),), None, (((0, 0), 3), ((1, 0), 1), ((2, 0), 1)), 3)
+"""
+
+CHAPTER_4 = """
+>>> f = (((0, 1), 2), ((2, 0), 1))
+>>> divided_by(5, f, 0, (1, 3)), divided(5, f, ((1, 3), (0, 2)))[1], least_form(5, f, ((1, 3), (4,)))
+(((((0, 0), 1),), (((0, 0), 2), ((0, 1), 2), ((1, 0), 4))), (((0, 0), 2), ((0, 1), 2), ((1, 0), 4)), (((1, 0), 4),))
+>>> table_of(5, f, ((1, 3), (0, 2))), form_of(5, ((1, 3), (0, 2)), (1, 0, 4, 3)), form_of(0, ((0, 2),), (0, 1)), mark_of(0, ((0, 2), (5, 6)), (2, 5))
+((1, 0, 4, 3), (((0, 0), 2), ((0, 1), 2), ((1, 0), 4)), None, (((1, 0), -6), ((1, 1), 1)))
+>>> are_alike(2, (((2,), 1),), (((1,), 1),), ((0, 1),)), are_alike(0, (((2,), 1),), (((1,), 1),), ((0, 1, 2),))
+(True, False)
+"""
+
+CHAPTER_5 = """
+>>> f = (((0, 2), 4), ((2, 0), 1))
+>>> decided(5, f, ((1, 4), (1, 4)))[0], decided(5, f, ((1,), (1, 2))), is_vanishing_paper(5, f, ((1, 4), (1, 4)), ((((0, 0), 1),), (((0, 0), 4),)))
+('paper', ('pick', (1, 2)), True)
+>>> paper_sum(5, ((1, 4), (1, 4)), ((((0, 0), 1),), ())), is_decision(5, f, ((1, 4), (1, 2)), ("pick", (1, 1))), is_decision(5, f, ((1, 4), (1, 2)), ("pick", (4, 2)))
+((((0, 0), 4), ((2, 0), 1)), False, True)
+"""
+
+
+def everything():
+    """All landed names, as a dict."""
+    names = {}
+    for file in LANDED:
+        names.update(vars(importlib.import_module("listpicks." + file)))
+    return names
+
+
+class Examples(unittest.TestCase):
+    def run_text(self, text):
+        test = doctest.DocTestParser().get_doctest(text, everything(), "example", None, 0)
+        self.assertTrue(test.examples)
+        told = []
+        doctest.DocTestRunner(verbose=False).run(test, out=told.append)
+        self.assertEqual("".join(told), "")
+
+    def test_chapter_3(self):
+        self.run_text(CHAPTER_3)
+
+    def test_chapter_4(self):
+        self.run_text(CHAPTER_4)
+
+    def test_chapter_5(self):
+        self.run_text(CHAPTER_5)
+
+
+if __name__ == "__main__":
+    unittest.main()

@@ -1,0 +1,85 @@
+"""The interface: where things are defined, by which names arguments are passed, and that arguments stay."""
+
+import copy
+import importlib
+import inspect
+import unittest
+
+from draws import only_tuples
+from interface import ERRORS, listed
+
+F = (((0, 1), 2), ((2, 0), 1))
+LISTS = ((1, 3), (0, 2))
+
+# For each function arguments by which it can be asked, and what it tells then.
+ASKED = {
+    "is_field": ((7,), True),
+    "element": ((7, -1), 6),
+    "inverse": ((7, 3), 5),
+    "is_polynomial": ((5, 2, F), True),
+    "polynomial_of": ((5, 2, [([2, 0], 1), ((0, 1), 7)]), F),
+    "degree": ((F,), 2),
+    "factor_of": ((F, (0, 1)), 2),
+    "plus": ((5, F, (((0, 1), 3),)), (((2, 0), 1),)),
+    "times": ((5, F, (((0, 1), 3),)), (((0, 2), 1), ((2, 1), 3))),
+    "scaled": ((5, F, 3), (((0, 1), 1), ((2, 0), 3))),
+    "constant": ((5, 2, 3), (((0, 0), 3),)),
+    "unknown": ((5, 2, 1), (((0, 1), 1),)),
+    "worth": ((5, F, (3, 2)), 3),
+    "put_in": ((5, F, 0, 3), (((0, 0), 4), ((0, 1), 2))),
+    "are_lists": ((5, LISTS), True),
+    "lists_of": ((5, [[3, 1], [0, 2, 0]]), LISTS),
+    "choice_count": ((LISTS,), 4),
+    "choices": ((LISTS,), ((1, 0), (1, 2), (3, 0), (3, 2))),
+    "list_product": ((5, 2, 0, (1, 3)), (((0, 0), 3), ((1, 0), 1), ((2, 0), 1))),
+    "picks": ((5, F, LISTS), ((1, 0), (3, 0), (3, 2))),
+    "first_pick": ((5, F, LISTS), (1, 0)),
+    "divided_by": ((5, F, 0, (1, 3)), ((((0, 0), 1),), (((0, 0), 2), ((0, 1), 2), ((1, 0), 4)))),
+    "divided": ((5, F, LISTS), (((((0, 0), 1),), ()), (((0, 0), 2), ((0, 1), 2), ((1, 0), 4)))),
+    "least_form": ((5, F, LISTS), (((0, 0), 2), ((0, 1), 2), ((1, 0), 4))),
+    "are_alike": ((5, F, (((0, 0), 2), ((0, 1), 2), ((1, 0), 4)), LISTS), True),
+    "table_of": ((5, F, LISTS), (1, 0, 4, 3)),
+    "form_of": ((5, LISTS, (1, 0, 4, 3)), (((0, 0), 2), ((0, 1), 2), ((1, 0), 4))),
+    "mark_of": ((5, LISTS, (1, 0)), (((0, 0), 1), ((0, 1), 2), ((1, 0), 3), ((1, 1), 1))),
+    "paper_sum": ((5, LISTS, ((((0, 0), 1),), ())), (((0, 0), 3), ((1, 0), 1), ((2, 0), 1))),
+    "is_vanishing_paper": ((5, (((0, 0), 3), ((1, 0), 1), ((2, 0), 1)), LISTS, ((((0, 0), 1),), ())), True),
+    "vanishing_paper": ((5, (((0, 0), 3), ((1, 0), 1), ((2, 0), 1)), LISTS), ((((0, 0), 1),), ())),
+    "decided": ((5, (((0, 0), 3), ((1, 0), 1), ((2, 0), 1)), LISTS), ("paper", ((((0, 0), 1),), ()))),
+    "is_decision": ((5, F, LISTS, ("pick", (1, 0))), True),
+}
+
+
+class Interface(unittest.TestCase):
+    def test_each_function_is_defined_in_its_file_with_these_arguments(self):
+        for file, name, arguments in listed():
+            module = importlib.import_module("listpicks." + file)
+            function = getattr(module, name)
+            self.assertEqual(function.__module__, "listpicks." + file)
+            self.assertEqual(function.__name__, name)
+            self.assertEqual(tuple(inspect.signature(function).parameters), arguments, name)
+
+    def test_each_error_is_defined_in_its_file(self):
+        module = importlib.import_module("listpicks.errors")
+        for name in ERRORS:
+            self.assertEqual(getattr(module, name).__module__, "listpicks.errors")
+
+    def test_all_are_asked(self):
+        self.assertEqual(sorted(ASKED), sorted(name for _, name, _ in listed()))
+
+    def test_asked_by_place_and_by_name_and_again(self):
+        for file, name, arguments in listed():
+            function = getattr(importlib.import_module("listpicks." + file), name)
+            passed, wanted = ASKED[name]
+            before = copy.deepcopy(passed)
+            by_place = function(*passed)
+            self.assertEqual(by_place, wanted, name)
+            self.assertEqual(function(**dict(zip(arguments, passed))), wanted, name)
+            self.assertEqual(function(*copy.deepcopy(passed)), wanted, name)
+            self.assertEqual(passed, before, name)
+            self.assertIs(type(by_place), type(wanted), name)
+            if not isinstance(wanted, bool):
+                self.assertTrue(only_tuples(by_place), name)
+
+
+if __name__ == "__main__":
+    unittest.main()
