@@ -75,6 +75,26 @@ def weight_map(p, row):
     return [numbers], share
 
 
+def check_map(p, row):
+    """The map from the worths at a list to their sums times each power, divided by the differences; p is not 0."""
+    numbers, _ = weights(p, row)
+    columns = []
+    for one, number in zip(row, numbers):
+        columns.append([power * number for power in powers_up_to(p, one, len(row) - 1)])
+    return [[column[at] for column in columns] for at in range(len(row))], 1
+
+
+def piece_map(p, row, pieces):
+    """The map from the worths at a list to the sums of weight_map for each of its pieces; p is not 0."""
+    rows = []
+    ahead = 0
+    for piece in pieces:
+        numbers, _ = weights(p, piece)
+        rows.append([0] * ahead + numbers + [0] * (len(row) - ahead - len(piece)))
+        ahead = ahead + len(piece)
+    return rows, 1
+
+
 def _table_of_form(form, lists):
     """The factors of a least form as a table, powers in the place of elements."""
     count = 1

@@ -14,6 +14,16 @@ LANDED = {
     "vanishing": "paper_sum(p, lists, paper), is_vanishing_paper(p, polynomial, lists, value), "
                  "vanishing_paper(p, polynomial, lists)",
     "deciding": "decided(p, polynomial, lists), is_decision(p, polynomial, lists, value)",
+    "joint": "joint_sum(p, equations, lists, paper), is_joint_paper(p, equations, polynomial, lists, value), "
+             "solved(p, equations, polynomial, lists)",
+    "weights": "differences(p, lists, choice), weighted_sum(p, polynomial, lists), top_factor(p, polynomial, lists)",
+    "surelists": "sure_powers(polynomial, lengths), is_sure(polynomial, lengths, value), shortened(lists, powers)",
+    "leading": "led(p, polynomial, lists), sure_choice(p, polynomial, lists, powers)",
+    "fewpicks": "least_shape(lengths, d), least_picks(lengths, d), fewest_condition(p, lists, d)",
+    "codes": "code_powers(lengths, d), check_sums(p, lists, d, table), is_code_table(p, lists, d, value)",
+    "lost": "is_enough(p, lists, d, lost), filled(p, lists, d, table)",
+    "mending": "vote_boxes(lists, powers), votes(p, lists, table, powers), sure_mends(lengths, d), "
+               "mended(p, lists, d, table)",
 }
 
 ERRORS = ("PickError", "InvalidPolynomial", "InvalidLists", "InvalidText", "InvalidPaper", "InvalidQuestion",

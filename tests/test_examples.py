@@ -31,6 +31,28 @@ CHAPTER_5 = """
 ('paper', ('pick', (1, 2)), True)
 >>> paper_sum(5, ((1, 4), (1, 4)), ((((0, 0), 1),), ())), is_decision(5, f, ((1, 4), (1, 2)), ("pick", (1, 1))), is_decision(5, f, ((1, 4), (1, 2)), ("pick", (4, 2)))
 ((((0, 0), 4), ((2, 0), 1)), False, True)
+>>> solved(3, ((((1, 1), 1),),), (((0, 0), 1),), ((1, 2), (1, 2)))[0], solved(3, ((((1, 1), 1),),), (((0, 0), 1),), ((1,), (0, 1)))
+('paper', ('pick', (1, 0)))
+"""
+
+CHAPTER_6 = """
+>>> f = (((0, 2), 1), ((1, 1), 2), ((2, 0), 1))
+>>> differences(5, ((1, 3), (0, 2)), (1, 2)), weighted_sum(5, f, ((1, 3), (0, 2))), top_factor(5, f, ((1, 3), (0, 2))), top_factor(5, f, ((1,), (2,)))
+(1, 2, 2, 4)
+>>> weighted_sum(0, (((3,), 1),), ((1, 4),)), sure_powers(f, (2, 2)), is_sure(f, (3, 1), (2, 0)), shortened(((1, 3), (0, 2, 4)), (0, 1))
+(21, (1, 1), True, ((1,), (0, 2)))
+>>> led(5, f, ((1, 4), (1, 4))), sure_choice(5, f, ((1, 2, 4), (3,)), (2, 0)), led(5, f, ((0, 1, 2), (0, 1)))
+(((1, 2), (1, 4)), (1, 3), None)
+"""
+
+CHAPTER_7 = """
+>>> least_shape((3, 2, 4), 2), fewest_condition(5, ((0, 1), (1, 2, 4)), 2), vote_boxes(((0, 1, 3), (2, 4)), (1, 0))
+((2, 1, 4), (((1, 0), 4), ((1, 1), 1)), (((0, 1), (2,)), ((0, 1), (4,))))
+>>> lists = ((0, 1), (0, 1, 2))
+>>> check_sums(3, lists, 1, (0, 1, 2, 1, 2, 0)), filled(3, lists, 1, (None, 1, 2, 1, 2, None))
+((0, 0, 0), (0, 1, 2, 1, 2, 0))
+>>> votes(2, ((0, 1),) * 3, (1, 0, 1, 0, 0, 0, 0, 1), (1, 0, 0)), mended(2, ((0, 1),) * 2, 0, (1, 0, 1, 1)), sure_mends((2, 2, 2), 1)
+((1, 0, 1, 1), (((0, 0), 1),), 1)
 """
 
 
@@ -58,6 +80,12 @@ class Examples(unittest.TestCase):
 
     def test_chapter_5(self):
         self.run_text(CHAPTER_5)
+
+    def test_chapter_6(self):
+        self.run_text(CHAPTER_6)
+
+    def test_chapter_7(self):
+        self.run_text(CHAPTER_7)
 
 
 if __name__ == "__main__":
