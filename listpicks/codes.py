@@ -1,10 +1,10 @@
 """Tables of polynomials of low degrees, and the sums by which they are checked; the field is not 0."""
 
 from listpicks.errors import Refused
-from listpicks.fewpicks import product_of
 from listpicks.gridmaps import check_map, mapped
 from listpicks.kinds import are_elements
 from listpicks.lists import all_tuples
+from listpicks.reckoning import product_of
 
 MOST_WORTHS = 256
 

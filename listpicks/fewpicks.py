@@ -3,16 +3,9 @@
 from listpicks.errors import Refused
 from listpicks.lists import list_product
 from listpicks.polynomials import constant, times
+from listpicks.reckoning import product_of
 
 MOST_TERMS = 3000
-
-
-def product_of(numbers):
-    """The product of some numbers, 1 for none."""
-    found = 1
-    for number in numbers:
-        found = found * number
-    return found
 
 
 def least_shape(lengths, d):

@@ -9,7 +9,7 @@ those of each row, divided by the share. The share is 1 but over the field 0.
 from math import lcm
 
 from listpicks.fields import element, inverse
-from listpicks.reckoning import powers_up_to
+from listpicks.reckoning import powers_up_to, product_of
 from listpicks.rests import product_factors, rest_of
 
 
@@ -31,21 +31,14 @@ def _row_times(row, column):
     return sum([one * other for one, other in zip(row, column)])
 
 
-def row_differences(p, row):
-    """For each element of a row the product of its differences from all others."""
-    found = []
-    for one in row:
-        product = 1
-        for other in row:
-            if other != one:
-                product = element(p, product * (one - other))
-        found.append(product)
-    return found
+def differences_in(p, row, one):
+    """The product of the differences of one element of a row from all others."""
+    return element(p, product_of([one - other for other in row if other != one]))
 
 
 def weights(p, row):
     """The pair (numbers, share): each number over the share is 1 divided by an element's differences."""
-    found = row_differences(p, row)
+    found = [differences_in(p, row, one) for one in row]
     if p != 0:
         return [inverse(p, product) for product in found], 1
     share = 1
@@ -97,10 +90,7 @@ def piece_map(p, row, pieces):
 
 def _table_of_form(form, lists):
     """The factors of a least form as a table, powers in the place of elements."""
-    count = 1
-    for row in lists:
-        count = count * len(row)
-    table = [0] * count
+    table = [0] * product_of([len(row) for row in lists])
     for powers, factor in form:
         place = 0
         for power, row in zip(powers, lists):

@@ -4,7 +4,7 @@ from listpicks.errors import InvalidLists, Refused
 from listpicks.gridmaps import all_worths
 from listpicks.kinds import is_ascending, is_element, is_sequence
 from listpicks.polynomials import put_in
-from listpicks.reckoning import gathered
+from listpicks.reckoning import gathered, product_of
 from listpicks.rests import product_factors, rest_of
 
 MOST_LISTS = 10
@@ -45,10 +45,7 @@ def is_choice(lists, value):
 
 def choice_count(lists):
     """How many choices there are."""
-    count = 1
-    for row in lists:
-        count = count * len(row)
-    return count
+    return product_of([len(row) for row in lists])
 
 
 def check_count(lists):
@@ -62,7 +59,7 @@ def all_tuples(rows):
     """All tuples with a thing of each row, in the order of the rows."""
     found = [()]
     for row in rows:
-        found = [(*ahead, one) for ahead in found for one in row]
+        found = [ahead + (one,) for ahead in found for one in row]
     return tuple(found)
 
 
@@ -76,7 +73,7 @@ def list_product(p, n, at, row):
     """The polynomial that is the product of (unknown at less the element) over a list."""
     ahead, behind = (0,) * at, (0,) * (n - at - 1)
     factors = product_factors(p, row)
-    return gathered(p, {(*ahead, power, *behind): factor for power, factor in enumerate(factors)})
+    return gathered(p, {ahead + (power,) + behind: factor for power, factor in enumerate(factors)})
 
 
 def picks(p, polynomial, lists):

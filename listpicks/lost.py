@@ -1,8 +1,8 @@
 """Lost worths of tables, and how they are filled in; the field is not 0."""
 
 from listpicks.codes import check_sums, lengths_of
-from listpicks.fewpicks import product_of
 from listpicks.linear import solution, stairs
+from listpicks.reckoning import product_of
 
 
 def _columns(p, lists, d, places):

@@ -1,11 +1,11 @@
 """Tables in which some worths are wrong, mended by votes; the field is not 0."""
 
 from listpicks.codes import code_powers, lengths_of
-from listpicks.fewpicks import product_of
 from listpicks.fields import element
 from listpicks.gridmaps import all_worths, mapped, piece_map
 from listpicks.lists import all_tuples
 from listpicks.polynomials import plus
+from listpicks.reckoning import product_of
 
 
 def _pieces(row, power):

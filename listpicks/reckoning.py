@@ -1,4 +1,4 @@
-"""Terms in no order yet: what polynomials are put together from."""
+"""Powers and products of numbers, and terms in no order yet, from which polynomials are put together."""
 
 from listpicks.fields import element
 
@@ -7,6 +7,14 @@ def gathered(p, totals):
     """The polynomial with the factors, any integers, that a dict tells by their powers."""
     found = [(powers, element(p, factor)) for powers, factor in totals.items()]
     return tuple(sorted([term for term in found if term[1] != 0]))
+
+
+def product_of(numbers):
+    """The product of some numbers, 1 for none."""
+    found = 1
+    for number in numbers:
+        found = found * number
+    return found
 
 
 def powers_up_to(p, one, most):

@@ -52,9 +52,9 @@ def quotient_table(p, row, most):
 def rest_of(p, polynomial, lists):
     """The polynomial with powers below the lengths of the lists that has the same worths at all choices."""
     terms = polynomial
-    # The order of the lists is free; with the shortest ones first there are fewest terms on the way.
-    for length, at in sorted([(len(row), at) for at, row in enumerate(lists)]):
+    for at, row in enumerate(lists):
         most = highest(terms, at)
-        if most >= length:
-            terms = exchanged(p, terms, at, rest_table(p, lists[at], most))
+        # Lower powers stay as they are.
+        if most >= len(row):
+            terms = exchanged(p, terms, at, rest_table(p, row, most))
     return tuple(sorted(terms))

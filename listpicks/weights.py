@@ -1,21 +1,16 @@
 """The one coefficient: a weighted sum over all choices, and the factor of the top."""
 
 from listpicks.fields import element
-from listpicks.gridmaps import all_worths, mapped, weight_map
+from listpicks.gridmaps import all_worths, differences_in, mapped, weight_map
 from listpicks.lists import check_count
 from listpicks.polynomials import factor_of
-from listpicks.reckoning import gathered, highest
+from listpicks.reckoning import gathered, highest, product_of
 from listpicks.rests import rest_of, tops
 
 
 def differences(p, lists, choice):
     """The product of all differences of what was picked from the rest of its list."""
-    product = 1
-    for row, one in zip(lists, choice):
-        for other in row:
-            if other != one:
-                product = element(p, product * (one - other))
-    return product
+    return element(p, product_of([differences_in(p, row, one) for row, one in zip(lists, choice)]))
 
 
 def weighted_sum(p, polynomial, lists):

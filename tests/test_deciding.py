@@ -112,6 +112,8 @@ class WhatDecisionsAre(unittest.TestCase):
         for wrong in (paper[::-1], list(paper), paper[:1], paper + ((),), great, (paper[0], None), None, (),
                       ((((0, 0), True),), paper[1])):
             self.assertIs(is_decision(5, F, lists, ("paper", wrong)), False, wrong)
+        for word in ("pick", "papers", "Paper", "", b"paper", None, True, 0, ("paper",), ["paper"]):
+            self.assertIs(is_decision(5, F, lists, (word, paper)), False, word)
         self.assertIs(is_decision(5, F, LISTS, ("paper", paper)), False)
         self.assertIs(is_decision(5, (), lists, ("paper", ((), ()))), True)
         self.assertIs(is_decision(5, (), lists, ("pick", (1, 1))), False)

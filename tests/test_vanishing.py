@@ -72,6 +72,16 @@ class WhatPapersAre(unittest.TestCase):
         g = summed(7, multiplied(7, one, (((0, 3), 1),)))
         self.assertIs(is_vanishing_paper(7, g, lists, (summed(7, (((0, 3), 1),), other), negative(7, one))), True)
 
+    def test_not_only_some_entries_count(self):
+        lists = ((0, 1), (0, 2), (3,))
+        one, other = row_product(5, 3, 0, lists[0]), row_product(5, 3, 1, lists[1])
+        for paper in ((other, negative(5, one), ()), (), ((), (), ())):
+            self.assertIs(is_vanishing_paper(5, (), lists, paper), paper == ((), (), ()))
+        f = row_product(5, 3, 2, lists[2])
+        good = (((0, 0, 0), 1),)
+        self.assertIs(is_vanishing_paper(5, f, lists, ((), (), good)), True)
+        self.assertIs(is_vanishing_paper(5, f, lists, (other, negative(5, one), good)), False)
+
     def test_near_ones(self):
         good = (((0, 0), 1),)
         for entry in (None, [((0, 0), 1)], (((0, 0), True),), (((0, 0), 6),), (((0, 0), 1), ((0, 0), 0)),
