@@ -10,7 +10,7 @@ from math import lcm
 
 from listpicks.fields import element, inverse
 from listpicks.reckoning import powers_up_to, product_of
-from listpicks.rests import product_factors, rest_of
+from listpicks.rests import product_factors, quick_rest
 
 
 def mapped(p, table, maps):
@@ -101,5 +101,5 @@ def _table_of_form(form, lists):
 
 def all_worths(p, polynomial, lists):
     """The list of the worths of a polynomial at all choices, these in ascending order."""
-    table = _table_of_form(rest_of(p, polynomial, lists), lists)
+    table = _table_of_form(quick_rest(p, polynomial, lists), lists)
     return mapped(p, table, [worth_map(p, row) for row in lists])

@@ -5,7 +5,7 @@ from listpicks.gridmaps import all_worths
 from listpicks.kinds import is_ascending, is_element, is_sequence
 from listpicks.polynomials import put_in
 from listpicks.reckoning import gathered, product_of
-from listpicks.rests import product_factors, rest_of
+from listpicks.rests import product_factors, quick_rest
 
 MOST_LISTS = 10
 LONGEST_LIST = 12
@@ -85,7 +85,7 @@ def picks(p, polynomial, lists):
 def first_pick(p, polynomial, lists):
     """None, or the first choice at which a polynomial isn't 0."""
     check_count(lists)
-    return pick_of_form(p, rest_of(p, polynomial, lists), lists)
+    return pick_of_form(p, quick_rest(p, polynomial, lists), lists)
 
 
 def pick_of_form(p, form, lists):

@@ -3,6 +3,7 @@
 from listpicks.errors import InvalidPolynomial
 from listpicks.fields import element
 from listpicks.kinds import is_ascending, is_element, is_integer, is_number, is_pair, is_sequence
+from listpicks.packing import highest_power, packed, unpacked
 from listpicks.reckoning import exchanged, gathered, highest, powers_up_to
 
 GREATEST_POWER = 40
@@ -76,43 +77,19 @@ def minus(p, one, other):
     return plus(p, one, scaled(p, other, -1))
 
 
-def _highest_of_all(polynomial):
-    return max([max(powers) for powers, _ in polynomial])
-
-
-def _packed(polynomial, base):
-    """Pairs (code, factor): the powers are the digits of the code."""
-    found = []
-    for powers, factor in polynomial:
-        code = 0
-        for power in powers:
-            code = code * base + power
-        found.append((code, factor))
-    return found
-
-
-def _unpacked(code, base, n):
-    powers = []
-    for _ in range(n):
-        code, power = divmod(code, base)
-        powers.append(power)
-    return tuple(powers[::-1])
-
-
 def times(p, one, other):
     """The product of two polynomials."""
     if one == () or other == ():
         return ()
-    # Adding codes adds all powers at once: no digit of a sum comes to the base.
-    base = _highest_of_all(one) + _highest_of_all(other) + 1
-    packed = _packed(other, base)
+    # No power of the product comes to the base.
+    base = highest_power(one) + highest_power(other) + 1
+    steps = packed(other, base)
     totals = {}
-    for code, factor in _packed(one, base):
-        for step, share in packed:
+    for code, factor in packed(one, base).items():
+        for step, share in steps.items():
             key = code + step
             totals[key] = totals.get(key, 0) + factor * share
-    n = len(one[0][0])
-    return gathered(p, {_unpacked(code, base, n): total for code, total in totals.items()})
+    return unpacked(p, totals, base, len(one[0][0]))
 
 
 def scaled(p, polynomial, factor):

@@ -3,10 +3,19 @@
 from listpicks.fields import element
 
 
+def reduced(p, totals):
+    """The dict of the elements that the integers of a dict stand for, without those that are 0."""
+    found = {}
+    for key, total in totals.items():
+        factor = element(p, total)
+        if factor != 0:
+            found[key] = factor
+    return found
+
+
 def gathered(p, totals):
     """The polynomial with the factors, any integers, that a dict tells by their powers."""
-    found = [(powers, element(p, factor)) for powers, factor in totals.items()]
-    return tuple(sorted([term for term in found if term[1] != 0]))
+    return tuple(sorted(reduced(p, totals).items()))
 
 
 def product_of(numbers):
@@ -43,8 +52,6 @@ def exchanged(p, terms, at, table):
             column[power] = column.get(power, 0) + factor * share
     found = []
     for (ahead, behind), column in columns.items():
-        for power, total in column.items():
-            factor = element(p, total)
-            if factor != 0:
-                found.append((ahead + (power,) + behind, factor))
+        for power, factor in reduced(p, column).items():
+            found.append((ahead + (power,) + behind, factor))
     return found

@@ -1,7 +1,8 @@
 """What powers leave when they are divided by the product of (unknown less element) over a list."""
 
 from listpicks.fields import element
-from listpicks.reckoning import exchanged, highest
+from listpicks.packing import highest_power, packed, unpacked
+from listpicks.reckoning import product_of, reduced
 
 
 def product_factors(p, row):
@@ -51,10 +52,34 @@ def quotient_table(p, row, most):
 
 def rest_of(p, polynomial, lists):
     """The polynomial with powers below the lengths of the lists that has the same worths at all choices."""
-    terms = polynomial
-    for at, row in enumerate(lists):
-        most = highest(terms, at)
-        # Lower powers stay as they are.
-        if most >= len(row):
-            terms = exchanged(p, terms, at, rest_table(p, row, most))
-    return tuple(sorted(terms))
+    return _rest_along(p, polynomial, lists, list(range(len(lists))))
+
+
+def quick_rest(p, polynomial, lists):
+    """The same, with the shortest lists first: where choices are few, there are fewest terms on the way."""
+    return _rest_along(p, polynomial, lists, [at for _, at in sorted([(len(row), at) for at, row in enumerate(lists)])])
+
+
+def _rest_along(p, polynomial, lists, order):
+    base = max(highest_power(polynomial), max([len(row) for row in lists])) + 1
+    totals = packed(polynomial, base)
+    for at in order:
+        weight = product_of([base] * (len(lists) - 1 - at))
+        totals = _left_by(p, totals, lists[at], base, weight)
+    return unpacked(p, totals, base, len(lists))
+
+
+def _left_by(p, totals, row, base, weight):
+    """What is left, by codes, if the powers that stand at one digit are divided by a row's product."""
+    most = max([code // weight % base for code in totals], default=0)
+    if most < len(row):
+        return totals
+    table = rest_table(p, row, most)
+    found = {}
+    for code, factor in totals.items():
+        power = code // weight % base
+        bare = code - power * weight
+        for step, share in table[power]:
+            key = bare + step * weight
+            found[key] = found.get(key, 0) + factor * share
+    return reduced(p, found)
