@@ -12,7 +12,7 @@ def least_shape(lengths, d):
     """The lengths made less by d in all, the shortest ones first, down to 1."""
     shape = list(lengths)
     left = d
-    for length, at in sorted([(length, at) for at, length in enumerate(lengths)]):
+    for length, at in sorted([(many, place) for place, many in enumerate(lengths)]):
         taken = min(left, length - 1)
         shape[at] = length - taken
         left = left - taken

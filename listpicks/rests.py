@@ -57,7 +57,8 @@ def rest_of(p, polynomial, lists):
 
 def quick_rest(p, polynomial, lists):
     """The same, with the shortest lists first: where choices are few, there are fewest terms on the way."""
-    return _rest_along(p, polynomial, lists, [at for _, at in sorted([(len(row), at) for at, row in enumerate(lists)])])
+    pairs = sorted([(len(row), place) for place, row in enumerate(lists)])
+    return _rest_along(p, polynomial, lists, [at for _, at in pairs])
 
 
 def _rest_along(p, polynomial, lists, order):
