@@ -9,7 +9,7 @@ those of each row, divided by the share. The share is 1 but over the field 0.
 from math import lcm
 
 from listpicks.fields import element, inverse
-from listpicks.reckoning import powers_up_to, product_of
+from listpicks.reckoning import powers_up_to, product_of, row_times
 from listpicks.rests import product_factors, quick_rest
 
 
@@ -20,15 +20,11 @@ def mapped(p, table, maps):
     for rows, share in reversed(maps):
         size = len(rows[0])
         columns = [found[at:at + size] for at in range(0, len(found), size)]
-        found = [_row_times(row, column) for row in rows for column in columns]
+        found = [row_times(row, column) for row in rows for column in columns]
         if any([number % share != 0 for number in found]):
             return None
         found = [element(p, number // share) for number in found]
     return found
-
-
-def _row_times(row, column):
-    return sum([one * other for one, other in zip(row, column)])
 
 
 def differences_in(p, row, one):

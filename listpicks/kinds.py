@@ -34,3 +34,10 @@ def are_elements(p, many, value):
 def is_ascending(values):
     """Whether each of some things that can be compared is less than the next one."""
     return all([one < other for one, other in zip(values, values[1:])])
+
+
+def is_lot(many, value):
+    """Whether any value is an ascending tuple of numbers below many, perhaps empty."""
+    if not isinstance(value, tuple) or not all([is_number(one) and one < many for one in value]):
+        return False
+    return is_ascending(value)

@@ -1,6 +1,7 @@
 """Rows of elements of a field that is not 0, taken from each other until their beginnings are unlike."""
 
 from listpicks.fields import element, inverse
+from listpicks.reckoning import row_times
 
 
 def stairs(p, rows):
@@ -39,5 +40,5 @@ def solution(p, rows, many):
     for place, row in found[::-1]:
         if place == many:
             return None
-        numbers[place] = element(p, row[many] - sum([one * number for one, number in zip(row, numbers)]))
+        numbers[place] = element(p, row[many] - row_times(row, numbers))
     return numbers

@@ -4,7 +4,7 @@ from listpicks.errors import InvalidLists, Refused
 from listpicks.gridmaps import all_worths
 from listpicks.kinds import is_ascending, is_element, is_sequence
 from listpicks.polynomials import put_in
-from listpicks.reckoning import gathered, product_of
+from listpicks.reckoning import gathered, only_at, product_of
 from listpicks.rests import product_factors, quick_rest
 
 MOST_LISTS = 10
@@ -71,9 +71,8 @@ def choices(lists):
 
 def list_product(p, n, at, row):
     """The polynomial that is the product of (unknown at less the element) over a list."""
-    ahead, behind = (0,) * at, (0,) * (n - at - 1)
     factors = product_factors(p, row)
-    return gathered(p, {ahead + (power,) + behind: factor for power, factor in enumerate(factors)})
+    return gathered(p, {only_at(n, at, power): factor for power, factor in enumerate(factors)})
 
 
 def picks(p, polynomial, lists):

@@ -4,7 +4,7 @@ from listpicks.errors import InvalidPolynomial
 from listpicks.fields import element
 from listpicks.kinds import is_ascending, is_element, is_integer, is_number, is_pair, is_sequence
 from listpicks.packing import highest_power, packed, unpacked
-from listpicks.reckoning import exchanged, gathered, highest, powers_up_to
+from listpicks.reckoning import exchanged, gathered, highest, only_at, powers_up_to
 
 GREATEST_POWER = 40
 
@@ -104,7 +104,7 @@ def constant(p, n, factor):
 
 def unknown(p, n, at):
     """The polynomial in n unknowns that stands for one of them."""
-    return gathered(p, {(0,) * at + (1,) + (0,) * (n - at - 1): 1})
+    return gathered(p, {only_at(n, at, 1): 1})
 
 
 def worth(p, polynomial, choice):

@@ -1,4 +1,4 @@
-"""Powers and products of numbers, and terms in no order yet, from which polynomials are put together."""
+"""Powers, products and rows of numbers, and terms in no order yet, from which polynomials are put together."""
 
 from listpicks.fields import element
 
@@ -24,6 +24,16 @@ def product_of(numbers):
     for number in numbers:
         found = found * number
     return found
+
+
+def row_times(row, column):
+    """The sum of the numbers of a row, each times the number of a column at its place."""
+    return sum([one * other for one, other in zip(row, column)])
+
+
+def only_at(n, at, number):
+    """The tuple of n numbers with one at its place, all others 0."""
+    return (0,) * at + (number,) + (0,) * (n - at - 1)
 
 
 def powers_up_to(p, one, most):

@@ -24,6 +24,21 @@ LANDED = {
     "lost": "is_enough(p, lists, d, lost), filled(p, lists, d, table)",
     "mending": "vote_boxes(lists, powers), votes(p, lists, table, powers), sure_mends(lengths, d), "
                "mended(p, lists, d, table)",
+    "planes": "is_plane(p, n, value), plane_holds(p, plane, point), plane_polynomial(p, plane), "
+              "left_over(p, lists, planes)",
+    "covers": "is_cover(p, lists, point, value), least_cover(p, lists, point), other_left(p, lists, point, planes), "
+              "fewest_planes(lengths, most), cover_leaving(p, lists, many), whole_cover(p, lists)",
+    "meeting": "missed_plane(p, n, points), is_meeting(p, n, value), least_meeting(p, n)",
+    "sums": "sums(p, lists), sum_choice(p, lists, total), fewest_sums(p, lengths), least_sum_lists(lengths), "
+            "sum_outside(p, lists, barred)",
+    "unlike": "unlike_sums(p, lists), unlike_choice(p, lists, total), unlike_lengths(lengths), "
+              "fewest_unlike(p, lengths)",
+    "sumfactors": "sums_factor(p, lengths), unlike_factor(p, lengths)",
+    "zeros": "common_zeros(p, equations, lists), load(p, equations), weight_sum(p, equations, lists), "
+             "second_zero(p, equations, lists, zero), fewest_zeros(p, equations, lists)",
+    "totals": "all_lists(p, n), total_worth(p, n, polynomial), zero_unknowns(p, n, many)",
+    "zerolots": "adds_up(moduli, marks, lot), is_zero_lot(moduli, marks, value), zero_count(moduli, marks), "
+                "sign_count(moduli, marks), zero_lot(moduli, marks)",
 }
 
 ERRORS = ("PickError", "InvalidPolynomial", "InvalidLists", "InvalidText", "InvalidPaper", "InvalidQuestion",

@@ -55,6 +55,44 @@ CHAPTER_7 = """
 ((1, 0, 1, 1), (((0, 0), 1),), 1)
 """
 
+CHAPTER_8 = """
+>>> plane_holds(5, ((1, 2), 0), (3, 1)), plane_polynomial(5, ((1, 2), 3)), left_over(3, ((0, 1), (0, 2)), (((1, 1), 0),))
+(True, (((0, 0), 2), ((0, 1), 2), ((1, 0), 1)), ((0, 2), (1, 0)))
+>>> least_cover(7, ((0, 1, 3), (2, 5)), (1, 2)), other_left(7, ((0, 1, 3), (2, 5)), (1, 2), (((1, 0), 0), ((0, 1), 5)))
+((((0, 1), 5), ((1, 0), 0), ((1, 0), 3)), (3, 2))
+>>> fewest_planes((3, 4), 3), cover_leaving(7, ((0, 1, 3), (2, 5)), 2), whole_cover(7, ((0, 1, 3), (2, 5)))
+(3, (((0, 1), 2), ((1, 0), 0)), (((0, 1), 2), ((0, 1), 5)))
+>>> least_meeting(3, 2), missed_plane(3, 2, ((0, 0), (0, 1), (1, 0), (2, 2)))
+(((0, 0), (0, 1), (0, 2), (1, 0), (2, 0)), ((1, 1), 2))
+"""
+
+CHAPTER_9 = """
+>>> sums(7, ((0, 1, 3), (2, 5))), sum_choice(7, ((0, 1, 3), (2, 5)), 6), fewest_sums(7, (3, 2)), least_sum_lists((3, 2))
+((1, 2, 3, 5, 6), (1, 5), 4, ((0, 1, 2), (0, 1)))
+>>> sums_factor(7, (3, 2)), sums_factor(3, (3, 2)), sum_outside(5, ((0, 1, 2), (0, 1)), (0, 1, 2))
+(3, 0, (2, 1))
+>>> unlike_sums(0, ((0, 1, 2), (0, 1, 2))), unlike_lengths((3, 1, 3)), fewest_unlike(0, (3, 3)), fewest_unlike(7, (4, 4, 4)), unlike_factor(11, (1, 3))
+((1, 2, 3), (2, 1, 3), 3, 4, 1)
+"""
+
+CHAPTER_10 = """
+>>> f = polynomial_of(3, 3, [((1, 1, 0), 1), ((0, 0, 1), 1)])
+>>> load(3, (f,)), len(common_zeros(3, (f,), all_lists(3, 3))), fewest_zeros(3, (f,), all_lists(3, 3)), weight_sum(3, (f,), all_lists(3, 3))
+(4, 9, 3, 0)
+>>> common_zeros(3, (f,), ((0, 1),) * 3), second_zero(3, (f,), ((0, 1), (0, 1), (0,)), (0, 1, 0)) is None, weight_sum(3, (f,), ((0, 2), (1, 2), (2,)))
+(((0, 0, 0), (0, 1, 0), (1, 0, 0)), False, 2)
+>>> total_worth(3, 2, (((2, 2), 1), ((2, 4), 1), ((4, 0), 1))), all_lists(3, 2), zero_unknowns(5, 2, 1)
+(2, ((0, 1, 2), (0, 1, 2)), ((((1, 0), 1),),))
+"""
+
+CHAPTER_11 = """
+>>> marks = ((1, 2), (2, 0), (0, 1), (1, 0), (2, 2))
+>>> zero_count((3, 3), marks), sign_count((3, 3), marks), is_zero_lot((3, 3), marks, (0, 1, 2)), adds_up((3, 3), marks, (0, 4))
+(4, 0, True, (0, 1))
+>>> zero_lot((3,), ((1,), (1,), (2,))) in ((0, 2), (1, 2))
+True
+"""
+
 
 def everything():
     """All landed names, as a dict."""
@@ -86,6 +124,18 @@ class Examples(unittest.TestCase):
 
     def test_chapter_7(self):
         self.run_text(CHAPTER_7)
+
+    def test_chapter_8(self):
+        self.run_text(CHAPTER_8)
+
+    def test_chapter_9(self):
+        self.run_text(CHAPTER_9)
+
+    def test_chapter_10(self):
+        self.run_text(CHAPTER_10)
+
+    def test_chapter_11(self):
+        self.run_text(CHAPTER_11)
 
 
 if __name__ == "__main__":
