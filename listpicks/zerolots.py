@@ -3,7 +3,8 @@
 from listpicks.kinds import is_lot
 
 
-def _plus_mark(moduli, total, mark):
+def plus_mark(moduli, total, mark):
+    """What is left, by each modulus, of a total and a mark."""
     return tuple([(one + other) % modulus for one, other, modulus in zip(total, mark, moduli)])
 
 
@@ -11,7 +12,7 @@ def adds_up(moduli, marks, lot):
     """What is left, by each modulus, of the sum of the marks of a lot."""
     total = (0,) * len(moduli)
     for at in lot:
-        total = _plus_mark(moduli, total, marks[at])
+        total = plus_mark(moduli, total, marks[at])
     return total
 
 
@@ -27,7 +28,7 @@ def _counted(moduli, marks, sign):
     for mark in marks:
         found = {total: many for total, many in totals.items()}
         for total, many in totals.items():
-            key = _plus_mark(moduli, total, mark)
+            key = plus_mark(moduli, total, mark)
             found[key] = found.get(key, 0) + sign * many
         totals = found
     return totals[nothing]
@@ -51,7 +52,7 @@ def zero_lot(moduli, marks):
     for at, mark in enumerate(marks):
         ahead = list(lots.items())
         for total, lot in ahead:
-            key = _plus_mark(moduli, total, mark)
+            key = plus_mark(moduli, total, mark)
             if key == nothing:
                 return lot + (at,)
             if key not in lots:

@@ -39,6 +39,17 @@ LANDED = {
     "totals": "all_lists(p, n), total_worth(p, n, polynomial), zero_unknowns(p, n, many)",
     "zerolots": "adds_up(moduli, marks, lot), is_zero_lot(moduli, marks, value), zero_count(moduli, marks), "
                 "sign_count(moduli, marks), zero_lot(moduli, marks)",
+    "enoughmarks": "enough(moduli), lacking_marks(moduli), fewest_lots(moduli, many), lot_condition(moduli, marks)",
+    "equalshares": "share_lot(n, numbers), lacking_numbers(n)",
+    "webs": "is_web(value), web_polynomial(p, web), is_colouring(web, lists, value), colouring(web, lists)",
+    "webways": "is_way(web, value), outs(web, way), ways_with(web, numbers), way_within(web, most), "
+               "is_within(web, most, value)",
+    "rounds": "round_lots(web, way), round_counts(web, way)",
+    "webcolours": "length_paper(web, lengths), is_length_paper(web, lengths, value), even_length(web), two_sides(web), "
+                  "thickest(web)",
+    "games": "is_stand(web, value), is_offer(stand, value), is_answer(web, stand, offer, value), "
+             "after(stand, offer, answer), house_wins(web, stand), losing_offer(web, stand)",
+    "gamepapers": "game_paper(web, stand), is_game_paper(web, stand, value), kept_answer(web, stand, offer)",
 }
 
 ERRORS = ("PickError", "InvalidPolynomial", "InvalidLists", "InvalidText", "InvalidPaper", "InvalidQuestion",

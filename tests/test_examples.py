@@ -87,10 +87,31 @@ CHAPTER_10 = """
 
 CHAPTER_11 = """
 >>> marks = ((1, 2), (2, 0), (0, 1), (1, 0), (2, 2))
->>> zero_count((3, 3), marks), sign_count((3, 3), marks), is_zero_lot((3, 3), marks, (0, 1, 2)), adds_up((3, 3), marks, (0, 4))
-(4, 0, True, (0, 1))
->>> zero_lot((3,), ((1,), (1,), (2,))) in ((0, 2), (1, 2))
-True
+>>> enough((3, 3)), zero_count((3, 3), marks), sign_count((3, 3), marks), is_zero_lot((3, 3), marks, (0, 1, 2)), adds_up((3, 3), marks, (0, 4))
+(5, 4, 0, True, (0, 1))
+>>> fewest_lots((2, 4), 7), lacking_marks((2, 3)), share_lot(3, (1, 0, 0, 1)), share_lot(2, (5, 2, 7))
+(8, ((1, 0), (0, 1), (0, 1)), None, (0, 2))
+>>> lot_condition((3,), ((1,), (2,))), zero_lot((3,), ((1,), (1,), (2,))) in ((0, 2), (1, 2))
+((((0, 0), 1), ((0, 1), 2), ((1, 0), 2), ((1, 1), 2)), True)
+"""
+
+CHAPTER_12 = """
+>>> ring = (4, ((0, 1), (0, 3), (1, 2), (2, 3)))
+>>> outs(ring, (0, 1, 0, 0)), round_counts(ring, (0, 1, 0, 0)), ways_with(ring, (1, 1, 1, 1)), even_length(ring), two_sides(ring) is None
+((1, 1, 1, 1), (2, 0), ((0, 1, 0, 0), (1, 0, 1, 1)), 2, False)
+>>> web_polynomial(0, (3, ((0, 1), (1, 2)))), colouring(ring, ((1, 2), (1, 2), (2, 3), (1, 3)))
+((((0, 1, 1), 1), ((0, 2, 0), -1), ((1, 0, 1), -1), ((1, 1, 0), 1)), (2, 1, 2, 1))
+>>> is_length_paper(ring, (2, 2, 2, 2), (0, 1, 0, 0)), thickest(ring), way_within(ring, (1, 1, 0, 1)), round_lots(ring, (0, 1, 0, 0))
+(True, 1, ('lot', (0, 1, 2, 3)), ((), (0, 1, 2, 3)))
+"""
+
+# What of chapter 13 is answered so far: not yet the last line of it.
+CHAPTER_13 = """
+>>> ring = (4, ((0, 1), (0, 3), (1, 2), (2, 3)))
+>>> house_wins(ring, (2, 2, 2, 2)), game_paper(ring, (2, 2, 2, 2)), is_answer(ring, (2, 1, 2, 2), (0, 1), (1,)), after((2, 1, 2, 2), (0, 1), (1,))
+(True, (1, 1, 1, 1), True, (1, 0, 2, 2))
+>>> losing_offer((3, ((0, 1), (0, 2), (1, 2))), (2, 2, 2))
+(0, 1, 2)
 """
 
 
@@ -136,6 +157,12 @@ class Examples(unittest.TestCase):
 
     def test_chapter_11(self):
         self.run_text(CHAPTER_11)
+
+    def test_chapter_12(self):
+        self.run_text(CHAPTER_12)
+
+    def test_chapter_13(self):
+        self.run_text(CHAPTER_13)
 
 
 if __name__ == "__main__":

@@ -10,6 +10,8 @@ from interface import ERRORS, listed
 
 F = (((0, 1), 2), ((2, 0), 1))
 LISTS = ((1, 3), (0, 2))
+RING = (4, ((0, 1), (0, 3), (1, 2), (2, 3)))
+PATH = (3, ((0, 1), (1, 2)))
 
 # For each function arguments by which it can be asked, and what it tells then.
 ASKED = {
@@ -107,6 +109,37 @@ ASKED = {
     "zero_count": (((3,), ((1,), (2,))), 2),
     "sign_count": (((3,), ((1,), (2,))), 2),
     "zero_lot": (((3,), ((1,), (2,))), (0, 1)),
+    "enough": (((2, 4),), 5),
+    "lacking_marks": (((2, 3),), ((1, 0), (0, 1), (0, 1))),
+    "fewest_lots": (((2, 4), 7), 8),
+    "lot_condition": (((3,), ((1,), (2,))), (((0, 0), 1), ((0, 1), 2), ((1, 0), 2), ((1, 1), 2))),
+    "share_lot": ((2, (5, 2, 7)), (0, 2)),
+    "lacking_numbers": ((3,), (0, 0, 1, 1)),
+    "is_web": ((RING,), True),
+    "web_polynomial": ((3, (2, ((0, 1),))), (((0, 1), 2), ((1, 0), 1))),
+    "is_colouring": ((PATH, ((1,), (1, 2), (1,)), (1, 2, 1)), True),
+    "colouring": ((PATH, ((1,), (1, 2), (1,))), (1, 2, 1)),
+    "is_way": ((PATH, (0, 1)), True),
+    "outs": ((RING, (0, 1, 0, 0)), (1, 1, 1, 1)),
+    "ways_with": ((RING, (1, 1, 1, 1)), ((0, 1, 0, 0), (1, 0, 1, 1))),
+    "way_within": ((RING, (1, 1, 0, 1)), ("lot", (0, 1, 2, 3))),
+    "is_within": ((PATH, (1, 1, 0), ("way", (0, 0))), True),
+    "round_lots": ((RING, (0, 1, 0, 0)), ((), (0, 1, 2, 3))),
+    "round_counts": ((RING, (0, 1, 0, 0)), (2, 0)),
+    "length_paper": ((PATH, (2, 2, 1)), (0, 0)),
+    "is_length_paper": ((PATH, (2, 2, 1), (0, 0)), True),
+    "even_length": ((RING,), 2),
+    "two_sides": (((3, ((0, 1), (0, 2), (1, 2))),), None),
+    "thickest": ((RING,), 1),
+    "is_stand": ((PATH, (0, 12, 1)), True),
+    "is_offer": (((0, 2, 1), (1, 2)), True),
+    "is_answer": ((RING, (2, 1, 2, 2), (0, 1), (1,)), True),
+    "after": (((2, 1, 2, 2), (0, 1), (1,)), (1, 0, 2, 2)),
+    "house_wins": ((RING, (2, 2, 2, 2)), True),
+    "losing_offer": (((3, ((0, 1), (0, 2), (1, 2))), (2, 2, 2)), (0, 1, 2)),
+    "game_paper": ((RING, (2, 2, 2, 2)), (1, 1, 1, 1)),
+    "is_game_paper": ((RING, (2, 2, 2, 2), (1, 1, 1, 1)), True),
+    "kept_answer": (((2, ((0, 1),)), (1, 2), (0, 1)), (0,)),
 }
 
 
