@@ -1,20 +1,13 @@
 """How many marks always have a lot that adds up to nothing, and the condition that tells why."""
 
 from listpicks.errors import Refused
-from listpicks.reckoning import only_at, product_of
+from listpicks.reckoning import least_divisor, only_at, product_of
 from listpicks.tables import form_of
 from listpicks.zerolots import plus_mark
 
 
-def _least_divisor(number):
-    """The least number from 2 on that divides a number from 2 on: a prime."""
-    found = 2
-    while number % found != 0:
-        found = found + 1
-    return found
-
-
-def _is_power(number, prime):
+def is_power(number, prime):
+    """Whether a number from 1 on is a power of a prime."""
     left = number
     while left % prime == 0:
         left = left // prime
@@ -23,9 +16,9 @@ def _is_power(number, prime):
 
 def _common_prime(moduli):
     """The prime of which all moduli are powers; others are refused."""
-    prime = _least_divisor(moduli[0])
+    prime = least_divisor(moduli[0])
     for at, modulus in enumerate(moduli):
-        if not _is_power(modulus, prime):
+        if not is_power(modulus, prime):
             raise Refused(at)
     return prime
 

@@ -1,5 +1,8 @@
 """What any value must be to count as an integer, a number, a sequence or an element."""
 
+# The least number of more than 30 digits.
+LEAST_LONG = 1000000000000000000000000000000
+
 
 def is_integer(value):
     """Whether any value is an int that is not a bool."""
@@ -41,3 +44,8 @@ def is_lot(many, value):
     if not isinstance(value, tuple) or not all([is_number(one) and one < many for one in value]):
         return False
     return is_ascending(value)
+
+
+def is_short(value):
+    """Whether any value is an integer with at most 30 digits."""
+    return is_integer(value) and -LEAST_LONG < value < LEAST_LONG

@@ -92,6 +92,14 @@ def times(p, one, other):
     return unpacked(p, totals, base, len(one[0][0]))
 
 
+def product_polynomial(p, n, parts):
+    """The product of some polynomials in n unknowns, the polynomial 1 if there are none."""
+    found = constant(p, n, 1)
+    for part in parts:
+        found = times(p, found, part)
+    return found
+
+
 def scaled(p, polynomial, factor):
     """The product of a polynomial with an element."""
     return gathered(p, {powers: share * factor for powers, share in polynomial})

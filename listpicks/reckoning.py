@@ -26,6 +26,14 @@ def product_of(numbers):
     return found
 
 
+def least_divisor(number):
+    """The least number from 2 on that divides a number from 2 on: a prime."""
+    found = 2
+    while number % found != 0:
+        found = found + 1
+    return found
+
+
 def row_times(row, column):
     """The sum of the numbers of a row, each times the number of a column at its place."""
     return sum([one * other for one, other in zip(row, column)])

@@ -1,7 +1,7 @@
 """Lengths with which a web can be coloured from any lists, and papers that say so."""
 
 from listpicks.rounds import round_counts
-from listpicks.webcores import linked_places
+from listpicks.webcores import linked_places, spread
 from listpicks.webterms import some_powers
 from listpicks.webways import LOT, is_way, outs, way_within
 
@@ -37,22 +37,11 @@ def two_sides(web):
     sides = {}
     for start in range(len(linked)):
         if start not in sides:
-            sides[start] = 0
-            _spread(linked, sides, start)
+            found, _ = spread(linked, start)
+            sides.update(found)
     if any([sides[u] == sides[v] for u, v in web[1]]):
         return None
     return tuple([sides[place] for place in range(len(linked))])
-
-
-def _spread(linked, sides, start):
-    """Give all places to which ties lead from one place their sides."""
-    waiting = [start]
-    while waiting != []:
-        place = waiting.pop()
-        for other in linked[place]:
-            if other not in sides:
-                sides[other] = 1 - sides[place]
-                waiting.append(other)
 
 
 def thickest(web):

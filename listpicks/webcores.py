@@ -17,6 +17,25 @@ def linked_places(web):
     return found
 
 
+def spread(linked, start):
+    """The pair (sides, steps) of all places to which ties lead from one place.
+
+    The steps are ties, one by which each other place was reached; the sides
+    are 0 or 1 for each place, unlike at both places of each step.
+    """
+    sides = {start: 0}
+    steps = []
+    waiting = [start]
+    while waiting != []:
+        place = waiting.pop()
+        for other in linked[place]:
+            if other not in sides:
+                sides[other] = 1 - sides[place]
+                steps.append((min(place, other), max(place, other)))
+                waiting.append(other)
+    return sides, steps
+
+
 def rest_ties(web, numbers):
     """The ties between places that are not done: their numbers are above 0."""
     return [(u, v) for u, v in web[1] if numbers[u] > 0 and numbers[v] > 0]

@@ -147,6 +147,7 @@ class Form(unittest.TestCase):
                 self.assertNotIn(one, BARRED, name)
 
     def test_builtins_and_methods(self):
+        methods = {part.name for _, node in self.nodes(ast.ClassDef) for part in node.body if isinstance(part, ast.FunctionDef)}
         for name, tree in self.trees.items():
             bound = {node.id for node in ast.walk(tree) if isinstance(node, ast.Name) and isinstance(node.ctx, ast.Store)}
             for node in ast.walk(tree):
@@ -156,8 +157,34 @@ class Form(unittest.TestCase):
                     self.assertNotEqual(node.id, "_", (name, node.lineno))
                 if isinstance(node, ast.Call) and isinstance(node.func, ast.Attribute):
                     own = node.func.attr == "__init__"
-                    self.assertTrue(own or node.func.attr in METHODS, (name, node.lineno))
+                    self.assertTrue(own or node.func.attr in METHODS or node.func.attr in methods, (name, node.lineno))
             self.assertNotIn("__all__", bound)
+
+    def test_classes(self):
+        methods, stored = {}, {}
+        for name, node in self.nodes(ast.ClassDef):
+            for part in node.body:
+                if isinstance(part, ast.FunctionDef):
+                    methods.setdefault(part.name, set()).add(node.name)
+                    if part.name.startswith("__"):
+                        self.assertIn(part.name, ("__init__", "__len__"), name)
+                    for one in ast.walk(part):
+                        if isinstance(one, ast.Attribute) and isinstance(one.ctx, ast.Store):
+                            stored.setdefault(one.attr, set()).add(node.name)
+                            self.assertEqual(one.value.id, "self", (name, one.lineno))
+                else:
+                    self.assertIsInstance(part.value.value, str, (name, node.name))
+        self.assertEqual(set(methods) & set(stored), set())
+        for name, node in self.nodes(ast.Attribute):
+            if isinstance(node.ctx, ast.Load) and node.attr not in METHODS:
+                self.assertTrue(node.attr in methods or node.attr in stored, (name, node.attr))
+            if isinstance(node.ctx, ast.Store):
+                self.assertEqual(node.value.id, "self", (name, node.lineno))
+
+    def test_caught_errors_are_own_ones(self):
+        own = {node.name for _, node in self.nodes(ast.ClassDef)}
+        for name, node in self.nodes(ast.ExceptHandler):
+            self.assertIn(node.type.id, own, (name, node.lineno))
 
     def test_views_are_iterated_on_the_spot(self):
         for name, tree in self.trees.items():
