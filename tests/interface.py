@@ -1,4 +1,4 @@
-"""The names and arguments that DOC.md lists, file by file, as far as they have landed."""
+"""The names and arguments that DOC.md lists, file by file."""
 
 LANDED = {
     "fields": "is_field(value), element(p, number), inverse(p, one)",
@@ -50,17 +50,46 @@ LANDED = {
     "games": "is_stand(web, value), is_offer(stand, value), is_answer(web, stand, offer, value), "
              "after(stand, offer, answer), house_wins(web, stand), losing_offer(web, stand)",
     "gamepapers": "game_paper(web, stand), is_game_paper(web, stand, value), kept_answer(web, stand, offer)",
+    "playing": "played(web, stand, offers), coloured_at(web, stand, offers), colouring_by_game(web, lists)",
+    "bundles": "is_bundle(web, value), tie_numbers(web, bundle), is_divided(q, web, bundle, value), "
+               "is_equal(q, web, bundle, value)",
+    "dividedparts": "divided_part(q, web, bundle), part_count(q, web, bundle), equal_part(q, web, bundle)",
+    "enoughties": "web_pieces(web), tie_moduli(q, web), tie_marks(q, web), enough_ties(q, web), lacking_bundle(q, web), "
+                  "fewest_parts(q, web, many)",
+    "conditions": "is_condition(n, value), holds(p, condition, choice), held(p, lists, condition), straight(condition)",
+    "conditionpolynomials": "zero_only(p, k), told_degree(p, lists, condition), "
+                            "condition_polynomial(p, lists, condition)",
+    "questions": "tokens_of(text), is_question(value), question_tokens(question), question_text(question)",
+    "reading": "read_question(text)",
+    "touching": "touched(polynomial), reach_along(n, factors, order), width_along(n, factors, order), "
+                "best_order(n, factors), least_width(n, factors)",
+    "pieces": "factor_along(p, n, factors, powers, order), piece_sizes(p, n, factors, powers, order)",
+    "picking": "pick_count(p, factors, lists, order), some_pick(p, factors, lists, order)",
+    "living": "whole_condition(p, n, conditions), is_life(value), begun(p, n, conditions, lists)",
+    "livingchanges": "is_change(life, value), carried(life, change), changed(life, change)",
+    "lives": "lived(life, changes), diary(life, changes)",
+    "sheets": "sheet_holds(value), sheet(name, question), wrong_sheets(values)",
+}
+
+# For each class its file, its own arguments, and its methods with theirs.
+CLASSES = {
+    "House": ("houses", "text", "names(), life(), answer(), sure(), do(change), undo(), within(work)"),
+    "Desk": ("desk", "", "load(text), say(command)"),
 }
 
 ERRORS = ("PickError", "InvalidPolynomial", "InvalidLists", "InvalidText", "InvalidPaper", "InvalidQuestion",
           "Refused", "InvalidCommand")
 
 
-def listed():
-    """Triples (file, name, arguments) of all functions that have landed."""
+def split(text):
+    """Pairs (name, arguments) of functions or methods."""
     found = []
-    for file, text in LANDED.items():
-        for part in text.rstrip(")").split("), "):
-            name, arguments = part.split("(")
-            found.append((file, name, tuple(arguments.split(", "))))
+    for part in text.rstrip(")").split("), "):
+        name, arguments = part.rstrip(")").split("(")
+        found.append((name, tuple(arguments.split(", ")) if arguments else ()))
     return found
+
+
+def listed():
+    """Triples (file, name, arguments) of all functions."""
+    return [(file, name, arguments) for file, text in LANDED.items() for name, arguments in split(text)]

@@ -4,7 +4,7 @@ import doctest
 import importlib
 import unittest
 
-from interface import LANDED
+from interface import CLASSES, LANDED
 
 CHAPTER_3 = """
 >>> f = polynomial_of(5, 2, [((1, 0), 1), ((0, 1), -1)])
@@ -105,20 +105,72 @@ CHAPTER_12 = """
 (True, 1, ('lot', (0, 1, 2, 3)), ((), (0, 1, 2, 3)))
 """
 
-# What of chapter 13 is answered so far: not yet the last line of it.
 CHAPTER_13 = """
 >>> ring = (4, ((0, 1), (0, 3), (1, 2), (2, 3)))
 >>> house_wins(ring, (2, 2, 2, 2)), game_paper(ring, (2, 2, 2, 2)), is_answer(ring, (2, 1, 2, 2), (0, 1), (1,)), after((2, 1, 2, 2), (0, 1), (1,))
 (True, (1, 1, 1, 1), True, (1, 0, 2, 2))
 >>> losing_offer((3, ((0, 1), (0, 2), (1, 2))), (2, 2, 2))
 (0, 1, 2)
+>>> colouring_by_game(ring, ((1, 2), (1, 3), (1, 2), (2, 3))) is None, colouring_by_game((2, ((0, 1),)), ((5,), (5,))), coloured_at((2, ((0, 1),)), (1, 2), [(0, 1), (1,)])
+(False, None, (0, 1))
+"""
+
+CHAPTER_14 = """
+>>> three = (3, ((0, 1), (0, 2), (1, 2)))
+>>> enough_ties(3, three), enough_ties(4, three), lacking_bundle(3, three), divided_part(3, three, (2, 2, 2)), part_count(3, three, (3, 2, 2)), fewest_parts(3, three, 7)
+(7, 8, (2, 2, 2), None, 2, 2)
+>>> five = (5, ((0, 1), (0, 2), (0, 3), (0, 4), (1, 2), (1, 3), (1, 4), (2, 3), (2, 4), (3, 4)))
+>>> more = (2, 1, 1, 1, 1, 1, 1, 1, 1, 1)
+>>> tie_numbers(five, more), enough_ties(3, five), is_equal(3, five, more, divided_part(3, five, more))
+((5, 5, 4, 4, 4), 11, True)
+>>> web_pieces((4, ((0, 2),))), tie_moduli(4, three), tie_marks(4, three)
+(((0, 2), (1,), (3,)), (4, 4, 2), ((1, 0, 1), (0, 1, 1), (1, 1, 1)))
+"""
+
+CHAPTER_15 = """
+>>> read_question("field 5;list a: 1, 0;list b: 2; pick not [a + b like 2] or a unlike b;")[2:]
+(((0, 1), (2,)), ('some', (('not', ('like', (('add', (('of', 0), ('of', 1))), ('is', 2)))), ('unlike', (('of', 0), ('of', 1))))))
+>>> c, lists = ("not", ("unlike", (("of", 0), ("of", 1), ("is", 2)))), ((0, 1), (0, 2, 4))
+>>> held(5, lists, c), told_degree(5, lists, c)
+(((0, 0), (0, 2), (1, 2)), 12)
+"""
+
+CHAPTER_16 = """
+>>> def less(u, v):
+...     return plus(0, unknown(0, 4, u), scaled(0, unknown(0, 4, v), -1))
+>>> ring = (less(0, 1), less(1, 2), less(2, 3), less(0, 3))
+>>> touched(ring[3]), reach_along(4, ring, (0, 1, 2, 3)), width_along(4, ring, (1, 0, 2, 3)), least_width(4, ring), least_width(4, ring[:3])
+((0, 3), ((1, 3), (2, 3), (3,), ()), 2, 2, 1)
+>>> factor_along(0, 4, ring, (1, 1, 1, 1), (0, 1, 2, 3)), piece_sizes(0, 4, ring, (1, 1, 1, 1), (0, 1, 2, 3)), pick_count(0, ring, ((1, 2),) * 4, (3, 2, 1, 0))
+(-2, (2, 2, 1, 1), 2)
+"""
+
+CHAPTER_17 = """
+>>> f = (((0, 1), 4), ((1, 0), 1))
+>>> life = begun(5, 2, (f,), ((1, 2), (1,)))
+>>> life[4], carried(life, ("strike", 0, 2)), changed(life, ("strike", 0, 2))[4][0], is_change(life, ("strike", 1, 1))
+(('pick', (2, 1)), None, 'paper', False)
+>>> later = lived(life, [("strike", 0, 2), ("more", f), ("add", 1, 3)])
+>>> later[3:], diary(life, [("strike", 0, 2), ("more", f), ("add", 1, 3)]), whole_condition(5, 2, ())
+((((1,), (1, 3)), ('pick', (1, 3))), (('paper', False), ('paper', True), ('pick', False)), (((0, 0), 1),))
+"""
+
+CHAPTER_18 = """
+>>> house = House("field 5; list a: 1, 2; list b: 1; pick a unlike b;")
+>>> house.answer(), house.sure(), house.do(("strike", 0, 2)), house.answer()[0], len(house), house.undo(), house.names()
+(('pick', (2, 1)), (1, 0), None, 'paper', 1, True, ('a', 'b'))
+>>> desk = Desk()
+>>> desk.load("field 0; list x: 3, -1; list y: 3; pick x unlike y;"), desk.say("pick"), desk.say("strike x -1"), desk.say("pick"), desk.say("undo"), desk.say("list x"), desk.say("sure")
+('ok', 'x -1 y 3', 'ok', 'none', 'ok', '-1 3', 'yes')
+>>> sheet("way", ((2, ((0, 1),)), (1, 0))), sheet_holds(("lengths", ((2, ((0, 1),)), (2, 1)), (0,)))
+(('way', ((2, ((0, 1),)), (1, 0)), ('way', (0,))), True)
 """
 
 
 def everything():
-    """All landed names, as a dict."""
+    """All names, as a dict."""
     names = {}
-    for file in LANDED:
+    for file in list(LANDED) + [file for file, _, _ in CLASSES.values()]:
         names.update(vars(importlib.import_module("listpicks." + file)))
     return names
 
@@ -163,6 +215,21 @@ class Examples(unittest.TestCase):
 
     def test_chapter_13(self):
         self.run_text(CHAPTER_13)
+
+    def test_chapter_14(self):
+        self.run_text(CHAPTER_14)
+
+    def test_chapter_15(self):
+        self.run_text(CHAPTER_15)
+
+    def test_chapter_16(self):
+        self.run_text(CHAPTER_16)
+
+    def test_chapter_17(self):
+        self.run_text(CHAPTER_17)
+
+    def test_chapter_18(self):
+        self.run_text(CHAPTER_18)
 
 
 if __name__ == "__main__":

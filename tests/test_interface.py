@@ -6,12 +6,18 @@ import inspect
 import unittest
 
 from draws import only_tuples
-from interface import ERRORS, listed
+from interface import CLASSES, ERRORS, listed, split
 
 F = (((0, 1), 2), ((2, 0), 1))
 LISTS = ((1, 3), (0, 2))
 RING = (4, ((0, 1), (0, 3), (1, 2), (2, 3)))
 PATH = (3, ((0, 1), (1, 2)))
+THREE = (3, ((0, 1), (0, 2), (1, 2)))
+LESS = ("unlike", (("of", 0), ("of", 1)))
+QUESTION = (5, ("a", "b"), LISTS, LESS)
+TEXT = "field 5;list a:1,3;list b:0,2;pick a unlike b;"
+LINKED = ((((0, 1, 0), 4), ((1, 0, 0), 1)), (((0, 0, 1), 4), ((0, 1, 0), 1)))
+LIFE = (5, 2, (F,), LISTS, ("pick", (1, 0)))
 
 # For each function arguments by which it can be asked, and what it tells then.
 ASKED = {
@@ -140,7 +146,58 @@ ASKED = {
     "game_paper": ((RING, (2, 2, 2, 2)), (1, 1, 1, 1)),
     "is_game_paper": ((RING, (2, 2, 2, 2), (1, 1, 1, 1)), True),
     "kept_answer": (((2, ((0, 1),)), (1, 2), (0, 1)), (0,)),
+    "played": (((2, ((0, 1),)), (1, 2), [(0, 1), (1,)]), (((0,), (0, 1)), ((1,), (0, 0)))),
+    "coloured_at": (((2, ((0, 1),)), (1, 2), [(0, 1)]), (0, None)),
+    "colouring_by_game": ((PATH, ((1,), (1, 2), (1,))), None),
+    "is_bundle": ((PATH, (3, 0)), True),
+    "tie_numbers": ((PATH, (3, 1)), (3, 4, 1)),
+    "is_divided": ((2, PATH, (3, 1), (2, 0)), True),
+    "is_equal": ((2, PATH, (3, 1), (2, 0)), True),
+    "divided_part": ((2, PATH, (2, 1)), (2, 0)),
+    "part_count": ((2, PATH, (3, 1)), 4),
+    "equal_part": ((2, PATH, (1, 3)), (0, 2)),
+    "web_pieces": (((4, ((0, 2),)),), ((0, 2), (1,), (3,))),
+    "tie_moduli": ((4, THREE), (4, 4, 2)),
+    "tie_marks": ((4, THREE), ((1, 0, 1), (0, 1, 1), (1, 1, 1))),
+    "enough_ties": ((3, THREE), 7),
+    "lacking_bundle": ((3, PATH), (2, 2)),
+    "fewest_parts": ((3, THREE, 8), 4),
+    "is_condition": ((2, LESS), True),
+    "holds": ((5, LESS, (1, 1)), False),
+    "held": ((5, ((1, 3), (1,)), LESS), ((3, 1),)),
+    "straight": ((("not", LESS),), ("like", (("of", 0), ("of", 1)))),
+    "zero_only": ((7, 1), (((1,), 1),)),
+    "told_degree": ((5, ((1, 3), (1,)), ("not", LESS)), 1),
+    "condition_polynomial": ((5, LISTS, LESS), (((0, 1), 4), ((1, 0), 1))),
+    "tokens_of": (("a like 7;",), ("a", "like", "7", ";")),
+    "is_question": ((QUESTION,), True),
+    "question_tokens": ((QUESTION,), tuple("field 5 ; list a : 1 , 3 ; list b : 0 , 2 ; pick a unlike b ;".split())),
+    "question_text": ((QUESTION,), TEXT),
+    "read_question": ((TEXT,), QUESTION),
+    "touched": ((F,), (0, 1)),
+    "reach_along": ((3, LINKED, (1, 0, 2)), ((0, 2), (2,), ())),
+    "width_along": ((3, LINKED, (1, 0, 2)), 2),
+    "best_order": ((1, ()), (0,)),
+    "least_width": ((3, LINKED), 1),
+    "factor_along": ((5, 3, LINKED, (1, 0, 1), (0, 1, 2)), 4),
+    "piece_sizes": ((5, 3, LINKED, (1, 0, 1), (0, 1, 2)), (1, 1, 1)),
+    "pick_count": ((5, LINKED, ((1, 2),) * 3, (0, 1, 2)), 2),
+    "some_pick": ((5, LINKED, ((1,), (1, 2), (1,)), (0, 1, 2)), (1, 2, 1)),
+    "whole_condition": ((5, 2, (F, (((0, 0), 2),))), (((0, 1), 4), ((2, 0), 2))),
+    "is_life": ((LIFE,), True),
+    "begun": ((5, 2, (F,), LISTS), LIFE),
+    "is_change": ((LIFE, ("strike", 0, 1)), True),
+    "carried": ((LIFE, ("strike", 0, 3)), ("pick", (1, 0))),
+    "changed": ((LIFE, ("strike", 0, 3)), (5, 2, (F,), ((1,), (0, 2)), ("pick", (1, 0)))),
+    "lived": ((LIFE, [("less", 0), ("add", 1, 4)]), (5, 2, (), ((1, 3), (0, 2, 4)), ("pick", (1, 0)))),
+    "diary": ((LIFE, [("less", 0), ("strike", 0, 1)]), (("pick", True), ("pick", False))),
+    "sheet_holds": ((("decision", (5, F, LISTS), ("pick", (1, 0))),), True),
+    "sheet": (("decision", (5, F, LISTS)), ("decision", (5, F, LISTS), ("pick", (1, 0)))),
+    "wrong_sheets": (([("decision", (5, F, LISTS), ("pick", (1, 0))), None],), (1,)),
 }
+
+# Which of them tells truths within tuples.
+TRUTHS = ("diary",)
 
 
 class Interface(unittest.TestCase):
@@ -171,8 +228,27 @@ class Interface(unittest.TestCase):
             self.assertEqual(function(*copy.deepcopy(passed)), wanted, name)
             self.assertEqual(passed, before, name)
             self.assertIs(type(by_place), type(wanted), name)
-            if not isinstance(wanted, bool):
+            if not isinstance(wanted, bool) and name not in TRUTHS:
                 self.assertTrue(only_tuples(by_place), name)
+
+    def test_each_class_is_defined_in_its_file_with_these_methods(self):
+        for name, (file, arguments, methods) in CLASSES.items():
+            module = importlib.import_module("listpicks." + file)
+            told = getattr(module, name)
+            self.assertEqual((told.__module__, told.__name__), ("listpicks." + file, name))
+            self.assertEqual(",".join(inspect.signature(told).parameters), arguments)
+            for method, wanted in split(methods):
+                self.assertIn(method, vars(told))
+                self.assertEqual(tuple(inspect.signature(vars(told)[method]).parameters)[1:], wanted, method)
+        self.assertIn("__len__", vars(importlib.import_module("listpicks.houses").House))
+
+    def test_methods_asked_by_name(self):
+        house = importlib.import_module("listpicks.houses").House(text=TEXT)
+        house.do(change=("strike", 0, 1))
+        self.assertEqual(house.within(work=len), 1)
+        desk = importlib.import_module("listpicks.desk").Desk()
+        self.assertEqual(vars(desk), {"house": None})
+        self.assertEqual((desk.load(text=TEXT), desk.say(command="list a")), ("ok", "1 3"))
 
 
 if __name__ == "__main__":
