@@ -90,6 +90,14 @@ class ZeroOnly(unittest.TestCase):
                     point = tuple(draws.below(p) if draws.below(3) else 0 for _ in range(k))
                     self.assertIs(plain_worth(p, form, point) == 0, not any(point), (p, point))
 
+    def test_points_with_few_numbers(self):
+        # Had what is taken for one field of 7 ** 5 or 11 ** 5 elements a divisor of 0, it would be found here.
+        for p in (7, 11):
+            form = zero_only(p, 5)
+            for one, other in product(range(p), repeat=2):
+                for point in ((one, other, 1, 0, 0), (one, 0, 0, other, 1), (0, one, other, 0, 1)):
+                    self.assertNotEqual(plain_worth(p, form, point), 0)
+
     def test_the_field_0(self):
         self.assertEqual({sum(powers) for powers, _ in zero_only(0, 1)}, {1})
         for k in range(1, 6):
